@@ -1,0 +1,1 @@
+"""Lesssay: statements without the excluded middle, and what is left of them without a letter."""

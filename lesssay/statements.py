@@ -1,0 +1,85 @@
+"""Statements: letters and "nought", put together by tuples (sign, A, B)."""
+
+NOUGHT = "nought"
+SIGNS = ("and", "or", "gives")
+LONGEST = 8
+
+
+def is_letter(thing):
+    """Whether any thing is a letter."""
+    if not isinstance(thing, str) or thing == NOUGHT or thing in SIGNS:
+        return False
+    if not 1 <= len(thing) <= LONGEST:
+        return False
+    return all(["a" <= small <= "z" for small in thing])
+
+
+def has_sign(part):
+    """Whether a tuple has a sign and two places behind it, whatever stands there."""
+    return len(part) == 3 and part[0] in SIGNS
+
+
+def is_statement(thing):
+    """Whether any thing is a statement."""
+    # A list of what waits, not recursion: what was told may be deeper than Python's calls reach.
+    waiting = [thing]
+    while waiting:
+        part = waiting.pop()
+        if isinstance(part, tuple):
+            if not has_sign(part):
+                return False
+            waiting.extend(part[1:])
+        elif part != NOUGHT and not is_letter(part):
+            return False
+    return True
+
+
+def words(statement):
+    """The signs, letters and noughts of a statement, each sign ahead of its two sides.
+
+    No two statements have the same words, as each sign has just two sides.
+    """
+    found = []
+    waiting = [statement]
+    while waiting:
+        part = waiting.pop()
+        if isinstance(part, tuple):
+            sign, one, other = part
+            found.append(sign)
+            waiting.append(other)
+            waiting.append(one)
+        else:
+            found.append(part)
+    return found
+
+
+def same(one, other):
+    """Whether two statements are one and the same."""
+    # Python compares nested tuples by recursion, which deep ones would exceed; a list of words is flat.
+    return words(one) == words(other)
+
+
+def tuples(statement):
+    """How many tuples a statement has, each as often as it stands there."""
+    return len([word for word in words(statement) if word in SIGNS])
+
+
+def letters(statement):
+    """The letters of a statement, in the order of texts, each once."""
+    return sorted({word for word in words(statement) if is_letter(word)})
+
+
+def put(statement, letter, other):
+    """The statement with the other one at each place where the letter stands."""
+    built = []
+    # From behind, so that both sides of a sign are built when the sign comes.
+    for word in reversed(words(statement)):
+        if word in SIGNS:
+            left_side = built.pop()
+            right_side = built.pop()
+            built.append((word, left_side, right_side))
+        elif word == letter:
+            built.append(other)
+        else:
+            built.append(word)
+    return built.pop()

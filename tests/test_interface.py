@@ -1,0 +1,32 @@
+import importlib
+import inspect
+import unittest
+
+FUNCTIONS = {
+    "lesssay.statements": {
+        "is_statement": ["thing"],
+        "tuples": ["statement"],
+        "letters": ["statement"],
+        "put": ["statement", "letter", "other"],
+    },
+    "lesssay.heaps": {
+        "weight": ["statement"],
+        "lesser": ["one", "other"],
+    },
+    "lesssay.rules": {
+        "needs": ["heap", "goal", "rule", "about"],
+    },
+}
+
+
+class Interface(unittest.TestCase):
+    def test_names_and_arguments(self):
+        for module_name, functions in FUNCTIONS.items():
+            module = importlib.import_module(module_name)
+            for name, arguments in functions.items():
+                signature = inspect.signature(getattr(module, name))
+                self.assertEqual(list(signature.parameters), arguments, name)
+
+
+if __name__ == "__main__":
+    unittest.main()
