@@ -35,10 +35,7 @@ def is_statement(thing):
 
 
 def words(statement):
-    """The signs, letters and noughts of a statement, each sign ahead of its two sides.
-
-    No two statements have the same words, as each sign has just two sides.
-    """
+    """The signs, letters and noughts of a statement, each sign ahead of its two sides."""
     found = []
     waiting = [statement]
     while waiting:
@@ -51,12 +48,6 @@ def words(statement):
         else:
             found.append(part)
     return found
-
-
-def same(one, other):
-    """Whether two statements are one and the same."""
-    # Python compares nested tuples by recursion, which deep ones would exceed; a list of words is flat.
-    return words(one) == words(other)
 
 
 def tuples(statement):

@@ -56,7 +56,8 @@ class Form(unittest.TestCase):
             own |= {node.id for node in nodes if isinstance(node, ast.Name) and isinstance(node.ctx, ast.Store)}
             read = {node.id for node in nodes if isinstance(node, ast.Name)}
             self.assertEqual(sorted(read - own - BUILTINS), [], path.name)
-            self.assertEqual([name for name in sorted(own) if name.startswith("_") or name in BUILTINS], [], path.name)
+            barred = [name for name in own - {"__init__"} if name.startswith("_") or name in BUILTINS]
+            self.assertEqual(barred, [], path.name)
 
 
 if __name__ == "__main__":

@@ -16,6 +16,27 @@ FUNCTIONS = {
     "lesssay.rules": {
         "needs": ["heap", "goal", "rule", "about"],
     },
+    "lesssay.reasons": {
+        "stands": ["heap", "goal", "reason"],
+        "size": ["reason"],
+        "height": ["reason"],
+    },
+    "lesssay.trees": {
+        "is_tree": ["thing"],
+        "worlds": ["tree"],
+        "holds": ["tree", "statement"],
+        "refutes": ["tree", "heap", "goal"],
+    },
+    "lesssay.settling": {
+        "settled": ["heap", "goal"],
+        "gives": ["one", "other"],
+        "alike": ["one", "other"],
+    },
+    "lesssay.joining": {
+        "joined": ["heap", "middle", "goal", "one", "other"],
+        "once": ["heap", "twice", "goal", "reason"],
+        "side": ["one", "other", "reason"],
+    },
 }
 
 
