@@ -152,7 +152,8 @@ def random_row(chance, size, many, leaves, signs=SIGNS):
 def random_rows(seed, count):
     """Rows over one to four letters, with all signs, heaps of none to six statements, up to twelve tuples."""
     chance = random.Random(seed)
-    leaves = [["a"], ["a", NOUGHT], ["a", "b"], ["a", "b", NOUGHT], ["a", "b", "c", NOUGHT], ["a", "b", "c", "d", NOUGHT]]
+    leaves = [list("a"), list("ab"), ["a", NOUGHT], ["a", "b", NOUGHT], ["a", "b", "c", NOUGHT]]
+    leaves.append(["a", "b", "c", "d", NOUGHT])
     signs = [SIGNS, ("gives",), ("or", "gives"), ("gives", "gives", "or", "and")]
     for turn in range(count):
         many = chance.randrange(7)

@@ -88,7 +88,10 @@ TWICE = [
         ["b"], ("gives", OR, "d"), "d",
         ("split", ("gives", OR, "d"), [("split", ("gives", OR, "d"), [("use", ("gives", "b", "d"), [here("d")])])]),
     ),
-    (["a"], ("gives", NOUGHT, "b"), "a", ("idle", ("gives", NOUGHT, "b"), [("idle", ("gives", NOUGHT, "b"), [here("a")])])),
+    (
+        ["a"], ("gives", NOUGHT, "b"), "a",
+        ("idle", ("gives", NOUGHT, "b"), [("idle", ("gives", NOUGHT, "b"), [here("a")])]),
+    ),
 ]
 
 # Statements one and other of which no statements give one or the other.

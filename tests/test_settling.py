@@ -311,7 +311,8 @@ class HandedInAgain(Case):
                 self.answer([made], small)
                 self.answer([made, small], (sign, small, one))
             self.assertEqual(self.answer([("and", one, other)], ("or", other, one)), "reason")
-            self.assertEqual(self.answer([("gives", one, other), ("gives", other, small)], ("gives", one, small)), "reason")
+            chain = [("gives", one, other), ("gives", other, small)]
+            self.assertEqual(self.answer(chain, ("gives", one, small)), "reason")
 
     def test_the_same_put_for_a_letter(self):
         chance = random.Random(11)

@@ -102,7 +102,8 @@ class IsTree(unittest.TestCase):
         self.no(nested((["a"], ()), 28, lambda tree: ([], [tree])))
         self.yes(([], [A] * 600))
         self.no(([], [A] * 600 + [(["a", "a"], [])]))
-        names = sorted("n" + one + other for one in "abcdefghijklmnopqrstuvwxyz" for other in "abcdefghijklmnopqrstuvwxyz")
+        small = "abcdefghijklmnopqrstuvwxyz"
+        names = sorted("n" + one + other for one in small for other in small)
         self.yes((names, [(names, [])]))
         self.no((names, [(names[:-1], [])]))
 
