@@ -65,6 +65,10 @@ class Search:
                 waiting.append(lesser_row)
         return self.lemma(row)
 
+    def given(self, numbers, goal):
+        """Whether the statements of these numbers give the one of the goal's number."""
+        return self.settle((bits_of(numbers), goal)) is not None
+
     def step(self, row):
         """Settle the row by what is known, and tell None; or tell a lesser row that must be settled ahead of it."""
         if not self.is_unsettled(row):

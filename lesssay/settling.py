@@ -25,10 +25,15 @@ def settled(heap, goal):
     return "reason", reason_of(search, lemma)
 
 
+def reason_for(one, other):
+    """A reason that the one statement gives the other one, where it does."""
+    return settled([one], other)[1]
+
+
 def gives(one, other):
     """Whether the one statement gives the other one."""
     search = Search()
-    return search.settle(search.row([one], other)) is not None
+    return search.given([search.stock.number(one)], search.stock.number(other))
 
 
 def alike(one, other):

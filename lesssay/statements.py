@@ -1,6 +1,7 @@
 """Statements: letters and "nought", put together by tuples (sign, A, B)."""
 
 NOUGHT = "nought"
+TRUTH = ("gives", "nought", "nought")
 SIGNS = ("and", "or", "gives")
 LONGEST = 8
 
@@ -50,6 +51,20 @@ def words(statement):
     return found
 
 
+def folded(statement, of_word, of_sign):
+    """What a statement comes to: each letter and nought by the one function, each sign and its sides by the other."""
+    ready = []
+    # From behind, so that both sides of a sign are ready when the sign comes.
+    for word in reversed(words(statement)):
+        if word in SIGNS:
+            one = ready.pop()
+            other = ready.pop()
+            ready.append(of_sign(word, one, other))
+        else:
+            ready.append(of_word(word))
+    return ready.pop()
+
+
 def tuples(statement):
     """How many tuples a statement has, each as often as it stands there."""
     return len([word for word in words(statement) if word in SIGNS])
@@ -62,15 +77,8 @@ def letters(statement):
 
 def put(statement, letter, other):
     """The statement with the other one at each place where the letter stands."""
-    built = []
-    # From behind, so that both sides of a sign are built when the sign comes.
-    for word in reversed(words(statement)):
-        if word in SIGNS:
-            left_side = built.pop()
-            right_side = built.pop()
-            built.append((word, left_side, right_side))
-        elif word == letter:
-            built.append(other)
-        else:
-            built.append(word)
-    return built.pop()
+    return folded(
+        statement,
+        lambda word: other if word == letter else word,
+        lambda sign, one, two: (sign, one, two),
+    )

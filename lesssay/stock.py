@@ -1,6 +1,6 @@
 """Statements by numbers: a stock gives each statement one number, that of its sides ahead of its own."""
 
-from lesssay.statements import NOUGHT, SIGNS, words
+from lesssay.statements import NOUGHT, folded
 
 LETTER = "letter"
 
@@ -39,13 +39,8 @@ class Stock:
 
     def number(self, statement):
         """The number of a statement."""
-        built = []
-        # From behind, so that both sides of a sign have their numbers when the sign comes.
-        for word in reversed(words(statement)):
-            if word in SIGNS:
-                one = built.pop()
-                other = built.pop()
-                built.append(self.made(word, one, other))
-            else:
-                built.append(self.leaf(word))
-        return built.pop()
+        return folded(
+            statement,
+            lambda word: self.leaf(word),
+            lambda sign, one, other: self.made(sign, one, other),
+        )

@@ -1,8 +1,9 @@
-"""The document's words on rows, reasons and trees said once more, plainly, without the program; and some more means."""
+"""The document's words on rows, reasons and trees said once more, plainly, and mostly without the program; more means."""
 
 import random
 
-from tests.samples import NOUGHT, SIGNS
+from lesssay.settling import alike
+from tests.samples import NOUGHT, SIGNS, TRUTH
 
 GOAL_RULES = ["both", "first", "second", "assume"]
 HEAP_RULES = ["here", "void", "open", "cases", "use", "idle", "curry", "split", "try"]
@@ -100,6 +101,28 @@ def is_tree_form(thing, beneath=()):
     return (
         letters == sorted(set(letters)) and NOUGHT not in letters and set(beneath) <= set(letters)
         and all(is_tree_form(each, letters) for each in above)
+    )
+
+
+def letters_of(statement):
+    """The letters of a statement, as a set."""
+    if isinstance(statement, str):
+        return {statement} - {NOUGHT}
+    return letters_of(statement[1]) | letters_of(statement[2])
+
+
+def tuples_of(statement):
+    """The tuples of a statement, each as often as it stands there."""
+    if isinstance(statement, tuple):
+        yield statement
+        for side in statement[1:]:
+            yield from tuples_of(side)
+
+
+def is_short(statement):
+    """Whether a statement is short, what is alike being told by the program."""
+    return statement == TRUTH or not any(
+        alike(part, other) for part in tuples_of(statement) for other in (TRUTH, NOUGHT, part[1], part[2])
     )
 
 

@@ -37,6 +37,17 @@ FUNCTIONS = {
         "once": ["heap", "twice", "goal", "reason"],
         "side": ["one", "other", "reason"],
     },
+    "lesssay.shortening": {
+        "short": ["statement"],
+    },
+    "lesssay.taking": {
+        "left": ["statement", "gone"],
+        "needed": ["statement", "gone"],
+        "papers": ["statement", "gone"],
+    },
+    "lesssay.between": {
+        "between": ["one", "other"],
+    },
 }
 
 
