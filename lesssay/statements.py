@@ -6,13 +6,16 @@ SIGNS = ("and", "or", "gives")
 LONGEST = 8
 
 
-def is_letter(thing):
-    """Whether any thing is a letter."""
-    if not isinstance(thing, str) or thing == NOUGHT or thing in SIGNS:
-        return False
-    if not 1 <= len(thing) <= LONGEST:
+def is_word(thing):
+    """Whether any thing is a text of one to eight small letters."""
+    if not isinstance(thing, str) or not 1 <= len(thing) <= LONGEST:
         return False
     return all(["a" <= small <= "z" for small in thing])
+
+
+def is_letter(thing):
+    """Whether any thing is a letter."""
+    return is_word(thing) and thing != NOUGHT and thing not in SIGNS
 
 
 def has_sign(part):

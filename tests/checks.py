@@ -1,4 +1,4 @@
-"""The document's words on rows, reasons and trees said once more, plainly, and mostly without the program; more means."""
+"""The document's words on rows, reasons and trees said once more, plainly, mostly without the program; and more."""
 
 import random
 

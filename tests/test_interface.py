@@ -48,6 +48,19 @@ FUNCTIONS = {
     "lesssay.between": {
         "between": ["one", "other"],
     },
+    "lesssay.ladder": {
+        "rung": ["number", "letter"],
+        "place": ["statement", "letter"],
+    },
+    "lesssay.settings": {
+        "is_true": ["statement", "setting"],
+        "twice": ["statement"],
+        "always": ["statement"],
+    },
+    "lesssay.texts": {
+        "show": ["statement"],
+        "read": ["text"],
+    },
 }
 
 
@@ -58,6 +71,12 @@ class Interface(unittest.TestCase):
             for name, arguments in functions.items():
                 signature = inspect.signature(getattr(module, name))
                 self.assertEqual(list(signature.parameters), arguments, name)
+
+    def test_the_desk(self):
+        desk = importlib.import_module("lesssay.desk").Desk
+        self.assertEqual(list(inspect.signature(desk).parameters), [])
+        self.assertIn("say", vars(desk))
+        self.assertEqual(list(inspect.signature(desk.say).parameters), ["self", "row"])
 
 
 if __name__ == "__main__":
