@@ -3,7 +3,7 @@
 All statements here are told by their numbers in the stock of a search.
 """
 
-from lesssay.statements import TRUTH, tuples
+from lesssay.statements import tuples
 
 
 def parts(stock, number):
@@ -43,11 +43,9 @@ def smaller(search, number):
 
 
 def trimmed(search, number):
-    """A statement alike with this one, none of whose variants is alike with it; so it is short."""
-    # A tuple alike with a side, or with nought, has that as a part; one alike with truth makes the tuple around it
-    # alike with a side or with truth, and so on outwards. So only the whole is to be seen to.
-    if search.given([], number):
-        return search.stock.number(TRUTH)
+    """A statement alike with this short one, none of whose variants is alike with it."""
+    # It is short, too: a tuple alike with a side, or with nought, has that as a part; and one alike with truth makes
+    # the tuple around it alike with a side, or with truth in turn, up to the whole.
     found = smaller(search, number)
     while found is not None:
         number = found

@@ -26,6 +26,8 @@ def both_ways(one, other):
 
 
 PQ = ("gives", "p", "q")
+CHAIN = ("gives", ("and", ("gives", "q", "r"), ("gives", "r", "p")), "p")
+CURRIED = ("gives", ("gives", "q", "r"), "r")
 
 # (statement, letters taken out, what is left, what is needed): by what each is alike with.
 KNOWN = [
@@ -59,6 +61,10 @@ KNOWN = [
     (("and", deny("p"), ("gives", "q", "p")), ["p"], deny("q"), NOUGHT),
     (("or", "q", ("gives", "q", "p")), ["p"], TRUTH, ("or", "q", deny("q"))),
     (("and", ("or", "p", "q"), ("gives", "p", ("and", "r", "q"))), ["p", "r"], "q", NOUGHT),
+    (CHAIN, ["p"], TRUTH, CURRIED),
+    (("gives", ("gives", "q", "r"), ("gives", ("gives", "r", "p"), "p")), ["p"], TRUTH, CURRIED),
+    (("gives", ("and", deny(deny("q")), ("gives", "q", "p")), "p"), ["p"], TRUTH, ("gives", deny(deny("q")), "q")),
+    (("gives", ("and", ("or", "q", "r"), ("gives", "q", "p")), "p"), ["p"], TRUTH, ("gives", "r", "q")),
 ]
 
 OTHERS = {
@@ -202,6 +208,17 @@ class LeftAndNeeded(Case):
         self.assertGreater(done, 100)
 
     def test_not_needlessly_large(self):
+        # Put together by steps these become some thirty tuples and more.
+        either = ("or", "q", ("gives", "q", "p"))
+        large = [
+            (left, ("gives", ("gives", "r", either), "r")),
+            (left, ("gives", ("gives", ("or", "p", "r"), either), "r")),
+            (left, ("gives", ("and", either, ("gives", "r", "q")), "r")),
+            (needed, ("gives", deny(("gives", "p", ("and", "q", "r"))), ("or", "q", "r"))),
+            (left, ("gives", ("gives", "r", ("or", deny("q"), ("gives", "p", "q"))), "r")),
+        ]
+        for deed, statement in large:
+            self.assertLessEqual(tuples(deed(statement, ["p"])), 6, statement)
         for statement in statements(59, 200):
             for told in self.both(statement, ["p"]):
                 self.assertLessEqual(tuples(told), 10)
